@@ -31,8 +31,8 @@ type result struct {
 	prices       map[int]int // what those who traded paid or got, by trader
 }
 
-// New makes a market that has done nothing yet.
-func New(c api.Config) *Market {
+// begin makes a market that has done nothing yet.
+func begin(c api.Config) *Market {
 	m := &Market{
 		config:   c,
 		accounts: accounts.Accounts{},
@@ -50,7 +50,7 @@ func (m *Market) Do(now int, text string) string {
 	return string(append([]byte{code}, told...))
 }
 
-// Journal is the records that were written.
+// Journal is the records that were read, and those written since.
 func (m *Market) Journal() string {
 	return string(m.journal)
 }

@@ -15,12 +15,12 @@ type Exchange struct {
 // Clear clears orders, in the order in which they came (P3).
 func Clear(l []api.Bid) api.Outcome { return clearing.Clear(l) }
 
-// Open makes an exchange of a journal (P4). The journal is not read yet: the exchange has done nothing.
+// Open makes an exchange of a journal (P4).
 func Open(c api.Config, journal string) (*Exchange, api.Errno) {
 	if c.Period < 1 || c.Period > api.MaxTime || c.Batch < 1 || c.Batch > api.MaxBatch {
 		return nil, api.ErrConfig
 	}
-	return &Exchange{market: market.New(c)}, api.OK
+	return &Exchange{market: market.Open(c, journal)}, api.OK
 }
 
 // Do answers a request, at a time (P5).
